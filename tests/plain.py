@@ -25,6 +25,29 @@ def fan(n):
     return history_of(*rows)
 
 
+def dice(seed):
+    """Numbers that look like chance, always the same ones for a seed."""
+    while True:
+        seed = (seed * 1103515245 + 12345) % 2 ** 31
+        yield seed >> 8
+
+
+def mixed(n, most, seed):
+    """A history of n makes with at most so many parents each, as dice fall."""
+    rolls = dice(seed)
+    rows, ends = [], []
+    for at in range(n):
+        # As many ends must be taken here as the makes behind cannot bring together.
+        must = max(0, len(ends) - (n - 1 - at) * (most - 1))
+        parents = set(ends[:must])
+        for _ in range(next(rolls) % (most + 1 - must)):
+            if at:
+                parents.add(next(rolls) % at)
+        rows.append(tuple(sorted(parents)))
+        ends = [end for end in ends if end not in parents] + [at]
+    return history_of(*rows)
+
+
 def walk(history, m):
     """The ancestors of a make, as a set."""
     found = {m}
@@ -48,6 +71,8 @@ def all_histories(n):
 
 
 SMALL = [history for n in range(1, 5) for history in all_histories(n)]
+
+DIAMOND = history_of((), (0,), (0,), (1, 2))
 
 SAMPLES = SMALL + [
     chain(5),
@@ -109,6 +134,7 @@ class Plain:
             answer: [plain_contradicts(history, row[0], answer) for row in self.rows]
             for answer in all_answers(history, skipped)
         }
+        self.tests = plain_tests(history, skipped)
         self.known = {}
 
     def start(self, k):
@@ -146,7 +172,7 @@ class Plain:
     def useful(self, state):
         """The useful tests of a state (w4)."""
         found = []
-        for m in plain_tests(self.history, self.skipped):
+        for m in self.tests:
             hits = [self.hit["works", m][at] for at in self.inside(state)]
             if any(hits) and not all(hits):
                 found.append(m)
@@ -181,6 +207,20 @@ class Plain:
         if list(rows) != sorted(set(rows)) or (q, state) not in rows:
             return False
         return all(self.row_holds(set(rows), p, other) for p, other in rows)
+
+
+class PlainOne(Plain):
+    """The same with one-sided false answers."""
+
+    def after(self, state, answer):
+        if answer[0] == "broken":
+            return tuple(-1 if hit else left for left, hit in zip(state, self.hit[answer]))
+        return super().after(state, answer)
+
+    def row_holds(self, rows, p, other):
+        return len(self.inside(other)) > 1 and (p == 0 or all(
+            any((p - 1, behind) in rows for behind in self.behind(other, m)) for m in self.useful(other)
+        ))
 
 
 TRIANGLE = [[1]]

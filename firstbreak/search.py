@@ -37,7 +37,7 @@ def check_size(state):
 def fewest_from(history, skipped, state):
     """The fewest tests that settle a state."""
     check_size(state)
-    return Search(history, skipped).needed(state)
+    return Search(history, skipped, taken).needed(state)
 
 
 def fewest(history, skipped, k):
@@ -46,10 +46,13 @@ def fewest(history, skipped, k):
 
 
 class Search:
-    """The states of a history with skipped makes, each worked out once."""
+    """The states of a history with skipped makes, each worked out once.
 
-    def __init__(self, history, skipped):
+    The function step tells the state behind an answer, as taken does."""
+
+    def __init__(self, history, skipped, step):
         self.marked = marked_tests(history, skipped)
+        self.step = step
         self.known = {}
 
     def needed(self, state):
@@ -68,8 +71,9 @@ class Search:
 
     def ways(self, state):
         """The useful tests of a state, each with the states behind broken and works."""
+        step = self.step
         return [
-            (m, taken(state, marked, "broken"), taken(state, marked, "works"))
+            (m, step(state, marked, "broken"), step(state, marked, "works"))
             for m, marked in self.marked if parts(state, marked)
         ]
 

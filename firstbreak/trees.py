@@ -3,15 +3,19 @@
 from firstbreak.errors import TooGreat
 from firstbreak.histories import ancestors
 from firstbreak.search import Search, check_size
-from firstbreak.weights import inside, weight
+from firstbreak.weights import inside, is_heavy, taken
 
 MOST_ASKS = 14
 
 
 def best_tree(history, skipped, state):
     """A tree of the least depth for a state."""
+    return least_tree(Search(history, skipped, taken), state)
+
+
+def least_tree(search, state):
+    """A tree of the least depth that a search finds."""
     check_size(state)
-    search = Search(history, skipped)
     if search.needed(state) > MOST_ASKS:
         raise TooGreat()
     return grown(search, state)
@@ -49,27 +53,31 @@ def followed(history, tree, truth, lies):
 
 def table_of(history, skipped, state, q):
     """A table for a state and q, None if the state is settled within q tests."""
+    return least_table(Search(history, skipped, taken), (q, state), is_heavy)
+
+
+def least_table(search, first, is_end):
+    """The table from a first row on that a search finds, None if that row is settled within its tests.
+
+    The function is_end tells of a state and its tests whether a row of them needs no rows with a test less."""
+    q, state = first
     check_size(state)
-    search = Search(history, skipped)
     if search.needed(state) <= q:
         return None
-    rows = {(q, state): True}
-    todo = [(q, state)]
+    rows = {first: True}
+    todo = [first]
     while todo:
-        row = todo.pop()
-        for other in rows_behind(search, row):
-            if other not in rows:
-                rows[other] = True
-                todo.append(other)
+        p, state = todo.pop()
+        behind = [] if is_end(state, p) else rows_behind(search, state, p)
+        for row in behind:
+            if row not in rows:
+                rows[row] = True
+                todo.append(row)
     return tuple(sorted(rows))
 
 
-def rows_behind(search, row):
-    """The rows that a table must have for a row that is not settled within its tests."""
-    p, state = row
-    # That holds where no test is left, too: two classes are in and weigh more than 1.
-    if weight(state, p) > 1 << p:
-        return []
+def rows_behind(search, state, p):
+    """For each useful test of a state that p tests do not settle a row behind it that is like that, too."""
     return [
         (p - 1, broken if search.needed(broken) >= p else works)
         for _, broken, works in search.ways(state)

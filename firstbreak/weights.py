@@ -38,9 +38,14 @@ def weight(state, q):
     return sum([choices(q, left) for left in state])
 
 
+def is_heavy(state, q):
+    """Whether a state weighs too much to be settled within q tests."""
+    return weight(state, q) > 1 << q
+
+
 def weight_bound(state):
     """The least number of tests with which the state is not too heavy."""
     q = 0
-    while weight(state, q) > 1 << q:
+    while is_heavy(state, q):
         q += 1
     return q

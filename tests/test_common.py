@@ -4,8 +4,11 @@ import unittest
 from copy import deepcopy
 
 import plain
-from firstbreak import answers, classes, histories, judge, search, text, trees, weights
+from firstbreak import answers, classes, counts, flaky, flakytree, halving, histories, judge, onepapers, onesided
+from firstbreak import patches, search, text, tools, trees, weights
+from firstbreak.answerer import Answerer
 from firstbreak.errors import BreakError
+from firstbreak.hunt import Hunt
 
 HISTORY = plain.history_of((), (0,), (0,), (1, 2))
 SKIPPED = (1,)
@@ -27,7 +30,25 @@ CALLS = (
     (trees.followed, HISTORY, TREE, 2, (0,)), (trees.table_of, HISTORY, SKIPPED, STATE, 2),
     (trees.table_of, HISTORY, SKIPPED, STATE, 20), (judge.judge_tree, HISTORY, SKIPPED, STATE, 4, TREE),
     (judge.judge_table, HISTORY, SKIPPED, STATE, 0, ((0, STATE),)),
+    (halving.parts_by, HISTORY, (0, 2, 3), 1), (halving.even_test, HISTORY, (0, 2, 3)),
+    (halving.even_most, HISTORY, (0, 2, 3)), (halving.even_tree, HISTORY), (halving.has_two, HISTORY),
+    (halving.two_bound, 9), (tools.between, HISTORY, (3,), (1,)), (tools.merges, HISTORY), (tools.sides, HISTORY, 3),
+    (tools.main_line, HISTORY), (tools.reduced, HISTORY), (tools.up_to, HISTORY, 2), (tools.ways, HISTORY, 0),
+    (tools.gates, HISTORY, 0), (tools.to_blame, HISTORY, ANSWERS), (counts.counts_after, (3, 2), (1, 1), False),
+    (counts.counts_weight, (3, 2), 4), (counts.fewest_counts, 3, 1), (patches.fewest_patches, 9),
+    (patches.next_numbers, 3, 4), (onesided.can_be_one, HISTORY, ANSWERS, 1),
+    (onesided.after_one, HISTORY, SKIPPED, STATE, ANSWERS[1]), (onesided.fewest_one_from, HISTORY, SKIPPED, STATE),
+    (onesided.fewest_one, HISTORY, SKIPPED, 1), (onepapers.tree_one, HISTORY, SKIPPED, STATE),
+    (onepapers.table_one, HISTORY, SKIPPED, STATE, 1), (onepapers.table_one, HISTORY, SKIPPED, STATE, 20),
+    (onepapers.judge_tree_one, HISTORY, SKIPPED, STATE, 4, TREE),
+    (onepapers.judge_table_one, HISTORY, SKIPPED, STATE, 0, ((0, STATE),)), (flaky.counts_of, ANSWERS, 0),
+    (flaky.settled, ANSWERS, 0, 1, "two"), (flaky.can_be_by_make, HISTORY, ANSWERS, 1, "one"),
+    (flaky.fewest_by_make, HISTORY, SKIPPED, 1, "two"), (flaky.held_back, ANSWERS, 3, 1, "two"),
+    (flakytree.next_make, TREE, ANSWERS, 1, "two"), (flakytree.told_class, TREE, ANSWERS, 1, "one"),
+    (flakytree.still_needed, TREE, ANSWERS, 1, "two"),
+    (flakytree.run, TREE, (False, True, True, True), (0, 1), 1, "two"),
 )
+BOOLS = ("contradicts", "check_skipped", "has_two")
 
 LISTS = ["history", [["a", [0, True]], {"b": [1]}], [], None, ["ask", 0, ["nobody"], ["found", [0]]]]
 
@@ -48,8 +69,16 @@ class Common(unittest.TestCase):
 
     def test_bools_are_bools(self):
         for function, *arguments in CALLS:
-            if function.__name__ in ("contradicts", "check_skipped") or function.__name__.startswith("judge"):
+            if function.__name__ in BOOLS or function.__name__.startswith("judge"):
                 self.assertIsInstance(function(*arguments), bool)
+
+    def test_kinds_of_what_objects_tell(self):
+        hunt = Hunt(5)
+        answerer = Answerer(HISTORY, SKIPPED, STATE)
+        self.only_told_kinds((hunt.tell(True), answerer.test(0)))
+        self.only_told_kinds((hunt.test(), hunt.left(), hunt.ended(), hunt.found(), hunt.asked(), hunt.most()))
+        self.assertIsInstance(hunt.ended(), bool)
+        self.only_told_kinds((answerer.state(), answerer.answers(), answerer.needed()))
 
     def test_nothing_handed_in_is_changed(self):
         for thing in (LISTS, tuple(LISTS), ("history", LISTS), (LISTS,), (1, LISTS)):
@@ -61,6 +90,8 @@ class Common(unittest.TestCase):
             self.assertIs(answers.judge_certain(HISTORY, ANSWERS, 0, 2, thing), False)
             self.assertIs(judge.judge_tree(HISTORY, SKIPPED, STATE, 9, thing), False)
             self.assertIs(judge.judge_table(HISTORY, SKIPPED, STATE, 9, thing), False)
+            self.assertIs(onepapers.judge_tree_one(HISTORY, SKIPPED, STATE, 9, thing), False)
+            self.assertIs(onepapers.judge_table_one(HISTORY, SKIPPED, STATE, 9, thing), False)
             self.assertEqual(thing, before)
 
 

@@ -2,11 +2,18 @@
 
 import unittest
 
+from firstbreak.answerer import Answerer
 from firstbreak.answers import verdict
 from firstbreak.classes import classes, tests
+from firstbreak.counts import counts_after, counts_weight, fewest_counts
 from firstbreak.errors import BadHistory
+from firstbreak.halving import even_most, even_test, parts_by, two_bound
+from firstbreak.hunt import Hunt
+from firstbreak.onesided import after_one, can_be_one, fewest_one
+from firstbreak.patches import fewest_patches, next_numbers
 from firstbreak.search import fewest
-from firstbreak.text import parse
+from firstbreak.text import parse, shown
+from firstbreak.tools import between, gates, main_line, merges, reduced, sides, to_blame, up_to, ways
 from firstbreak.trees import best_tree, depth_of, followed
 from firstbreak.weights import start, weight, weight_bound
 
@@ -35,6 +42,46 @@ class Examples(unittest.TestCase):
         self.assertEqual(depth_of(tree), 1)
         self.assertEqual(followed(history, tree, 1, ()), ("found", 1))
         self.assertEqual(followed(history, tree, 1, (0,)), ("found", 0))
+
+    def test_halving(self):
+        history = parse("make a\nmake b from a\nmake c from b\nmake d from c\n")
+        self.assertEqual(even_test(history, (0, 1, 2, 3)), 1)
+        self.assertEqual(parts_by(history, (0, 1, 2, 3), 1), ((0, 1), (2, 3)))
+        self.assertEqual((even_most(history, (0, 1, 2, 3)), two_bound(4)), (2, 3))
+
+    def test_looking_at_histories(self):
+        history = parse("make a\nmake b from a\nmake c from a\nmake d from a b c\nmake e from d\n")
+        self.assertEqual((merges(history), sides(history, 3), main_line(history)), ((3,), ((0,), (1,), (2,)), (4, 3, 0)))
+        self.assertEqual((ways(history, 0), gates(history, 0), gates(history, 1)), (3, (0, 3, 4), (1, 3, 4)))
+        right = "make a\nmake b from a\nmake c from a\nmake d from b c\nmake e from d\n"
+        self.assertEqual(shown(reduced(history)), right)
+        self.assertEqual(between(history, (3,), (1,)), (2, 3))
+        self.assertEqual(to_blame(history, (("broken", 1), ("works", 0))), (1,))
+        self.assertEqual(shown(up_to(history, 2)), "make a\nmake c from a\n")
+
+    def test_patches(self):
+        self.assertEqual((fewest_patches(2), fewest_patches(3), fewest_patches(1000000)), (3, 5, 25))
+        self.assertEqual((next_numbers(2, 2), next_numbers(1, 2)), ((1, 1), (1, 0)))
+        self.assertEqual((counts_after((4, 0), (2, 0), True), counts_weight((4, 0), 5)), ((2, 2), 24))
+        self.assertEqual((fewest_counts(4, 1), fewest_counts(2, 2)), (5, 5))
+        hunt = Hunt(3)
+        self.assertEqual((hunt.test(), hunt.most()), ((0, 1), 5))
+        self.assertIsNone(hunt.tell(False))
+        self.assertEqual((hunt.left(), hunt.test(), hunt.most()), (((2,), (0, 1)), (2,), 3))
+
+    def test_one_sided(self):
+        history = parse("make a\nmake b from a\n")
+        self.assertEqual([fewest_one(history, (), k) for k in range(3)], [1, 2, 3])
+        self.assertEqual(after_one(history, (), (1, 1), ("broken", 0)), (1, -1))
+        self.assertEqual(can_be_one(history, (("works", 0),), 0), (1,))
+        self.assertEqual(can_be_one(history, (("works", 0),), 1), (0, 1))
+        self.assertEqual(can_be_one(history, (("broken", 0),), 5), (0,))
+
+    def test_answerer(self):
+        history = parse("make a\nmake b from a\nmake c from b\n")
+        answerer = Answerer(history, (), start(history, (), 0))
+        self.assertEqual((answerer.needed(), answerer.test(0), answerer.state()), (2, "works", (-1, 0, 0)))
+        self.assertEqual((answerer.needed(), answerer.test(1), answerer.state()), (1, "broken", (-1, 0, -1)))
 
 
 if __name__ == "__main__":

@@ -27,6 +27,44 @@ INTERFACE = {
         "table_of": "history skipped state q",
     },
     "judge": {"judge_tree": "history skipped state q tree", "judge_table": "history skipped state q table"},
+    "halving": {
+        "parts_by": "history left m", "even_test": "history left", "even_most": "history left", "even_tree": "history",
+        "has_two": "history", "two_bound": "n",
+    },
+    "tools": {
+        "between": "history broken works", "merges": "history", "sides": "history m", "main_line": "history",
+        "reduced": "history", "up_to": "history m", "ways": "history m", "gates": "history m",
+        "to_blame": "history answers",
+    },
+    "counts": {"counts_after": "counts taken broken", "counts_weight": "counts q", "fewest_counts": "n k"},
+    "patches": {"fewest_patches": "n", "next_numbers": "a b"},
+    "onesided": {
+        "can_be_one": "history answers k", "after_one": "history skipped state answer",
+        "fewest_one_from": "history skipped state", "fewest_one": "history skipped k",
+    },
+    "onepapers": {
+        "tree_one": "history skipped state", "table_one": "history skipped state q",
+        "judge_tree_one": "history skipped state q tree", "judge_table_one": "history skipped state q table",
+    },
+    "flaky": {
+        "counts_of": "answers make", "settled": "answers make k rule", "can_be_by_make": "history answers k rule",
+        "fewest_by_make": "history skipped k rule", "held_back": "answers make k rule",
+    },
+    "flakytree": {
+        "next_make": "tree answers k rule", "told_class": "tree answers k rule", "still_needed": "tree answers k rule",
+        "run": "tree truth noise k rule",
+    },
+}
+
+CLASSES = {
+    ("hunt", "Hunt"): {
+        "__init__": "self n", "test": "self", "tell": "self broken", "left": "self", "ended": "self", "found": "self",
+        "asked": "self", "most": "self", "undo": "self",
+    },
+    ("answerer", "Answerer"): {
+        "__init__": "self history skipped state", "test": "self m", "state": "self", "answers": "self",
+        "needed": "self", "undo": "self",
+    },
 }
 
 ERRORS = {
@@ -39,15 +77,27 @@ def body_of(name):
     return ast.parse((FOLDER / f"{name}.py").read_text()).body
 
 
+def parameters_of(body):
+    return {
+        node.name: " ".join(one.arg for one in node.args.args) for node in body if isinstance(node, ast.FunctionDef)
+    }
+
+
 class Interface(unittest.TestCase):
+    def compare(self, body, functions):
+        found = parameters_of(body)
+        for function, parameters in functions.items():
+            self.assertEqual(found.get(function), parameters, function)
+
     def test_functions(self):
         for name, functions in INTERFACE.items():
-            found = {
-                node.name: " ".join(one.arg for one in node.args.args)
-                for node in body_of(name) if isinstance(node, ast.FunctionDef)
-            }
-            for function, parameters in functions.items():
-                self.assertEqual(found.get(function), parameters, function)
+            self.compare(body_of(name), functions)
+
+    def test_classes(self):
+        for (name, title), methods in CLASSES.items():
+            bodies = [node.body for node in body_of(name) if isinstance(node, ast.ClassDef) and node.name == title]
+            self.assertEqual(len(bodies), 1)
+            self.compare(bodies[0], methods)
 
     def test_errors(self):
         found = {node.name: node.bases[0].id for node in body_of("errors") if isinstance(node, ast.ClassDef)}

@@ -4,26 +4,7 @@ from itertools import product
 import plain
 from firstbreak.judge import judge_table, judge_tree
 from firstbreak.trees import best_tree, table_of
-
-ODD_THINGS = (
-    None, 0, 1, True, False, "", "nobody", "found", "ask", (), [], {}, (None,), ((),), b"", 1.5, ("nobody", ()),
-    ["nobody"], ("Nobody",), ("found",), ["found", 0], ("found", 0, 0), ("Found", 0), (None, 0), ("found", None),
-    ("found", "0"), ("found", (0,)), ("found", [0]), ("found", 0.0), ("found", -1), ("found", 9), ("ask",), ("ask", 0),
-    ("ask", 0, ("nobody",)), (("nobody",),), ("nobody", "nobody"), ("ask", "nobody"), (("ask",), 0, (), ()),
-    ("found", 0, ("found", 0), ("found", 0)), ("nobody", 0, ("found", 0), ("found", 1)),
-)
-
-
-def parts_of(tree):
-    """Each part of a tree, with what gives the whole tree with something else in its place."""
-    found = [(tree, lambda other: other)]
-    if tree[0] == "ask":
-        word, m, broken, works = tree
-        for part, put in parts_of(broken):
-            found.append((part, lambda other, put=put: (word, m, put(other), works)))
-        for part, put in parts_of(works):
-            found.append((part, lambda other, put=put: (word, m, broken, put(other))))
-    return found
+from spoilt import ODD_THINGS, misshapen, misshapen_tables, other_tables, others, parts_of
 
 
 class Trees(unittest.TestCase):
@@ -45,47 +26,11 @@ class Trees(unittest.TestCase):
     def test_spoilt_parts(self):
         for game, skipped, state, depth, tree in self.games():
             for part, put in parts_of(tree):
-                for other in self.spoilt(game, part):
+                for other in others(game, part):
                     right = game.depth(state, put(other)) is not None
                     self.assertIs(judge_tree(self.history, skipped, state, 200, put(other)), right)
-                for other in self.misshapen(part):
+                for other in misshapen(part):
                     self.assertIs(judge_tree(self.history, skipped, state, 200, put(other)), False, put(other))
-
-    def spoilt(self, game, part):
-        """Parts of the right shape, most of which do not belong there."""
-        yield ("nobody",)
-        for at in range(-1, len(game.rows) + 1):
-            yield ("found", at)
-        if part[0] == "ask":
-            _, m, broken, works = part
-            yield ("ask", m, works, broken)
-            yield broken
-            yield works
-            for other in range(-1, len(self.history[1]) + 1):
-                yield ("ask", other, broken, works)
-
-    def misshapen(self, part):
-        for thing in ODD_THINGS:
-            if thing != part:
-                yield thing
-        yield list(part)
-        yield part + (part,)
-        yield part[:-1]
-        if part[0] == "found":
-            yield ("found", str(part[1]))
-            yield ("found", float(part[1]))
-            if part[1] < 2:
-                yield ("found", part[1] == 1)
-        if part[0] == "ask":
-            word, m, broken, works = part
-            for other in (None, str(m), (m,), [m], float(m), -1, 4, 10 ** 30, True, False):
-                yield (word, other, broken, works)
-            for other in ("found", "nobody", "asks", "", None, 0, b"ask", ("ask",)):
-                yield (other, m, broken, works)
-            yield (word, m, list(broken), works)
-            yield (word, m, broken, list(works))
-            yield (word, m, broken, works, works)
-            yield (word, m, broken)
 
     def test_skipped_makes(self):
         history = plain.chain(3)
@@ -127,7 +72,7 @@ class Trees(unittest.TestCase):
         for state, right in (((-1, -1), ("nobody",)), ((0, -1), ("found", 0)), ((-1, 0), ("found", 1))):
             for q in (0, 5):
                 self.assertIs(judge_tree(plain.chain(2), (), state, q, right), True)
-                for thing in self.misshapen(right):
+                for thing in misshapen(right):
                     self.assertIs(judge_tree(plain.chain(2), (), state, q, thing), False, thing)
 
     def test_true_in_the_place_of_a_make(self):
@@ -163,25 +108,8 @@ class Tables(unittest.TestCase):
             state = game.start(k)
             for q in range(game.fewest(state)):
                 table = table_of(history, skipped, state, q)
-                self.spoil(game, state, q, table)
-
-    def spoil(self, game, state, q, table):
-        self.compare(game, state, q, table)
-        self.compare(game, state, q, table[::-1])
-        for at in range(0, len(table), 1 + len(table) // 40):
-            p, other = table[at]
-            ahead, behind = table[:at], table[at + 1:]
-            self.compare(game, state, q, ahead + behind)
-            self.compare(game, state, q, ahead + (table[at],) + table[at:])
-            self.compare(game, state, q, behind[:1] + ahead + table[at:at + 1] + behind[1:])
-            for place, left in enumerate(other):
-                for changed in (-1, left - 1, left + 1, 20):
-                    if -1 <= changed <= 20:
-                        row = (p, other[:place] + (changed,) + other[place + 1:])
-                        self.compare(game, state, q, tuple(sorted(set(ahead + (row,) + behind))))
-            for near in (p - 1, p + 1):
-                if 0 <= near <= q:
-                    self.compare(game, state, q, tuple(sorted(set(ahead + ((near, other),) + behind))))
+                for rows in other_tables(q, table):
+                    self.compare(game, state, q, rows)
 
     def test_misshapen_tables(self):
         table = table_of(self.history, (), self.state, 3)
@@ -192,20 +120,8 @@ class Tables(unittest.TestCase):
 
     def test_misshapen_rows(self):
         table = table_of(self.history, (), self.state, 3)
-        for at, (p, other) in enumerate(table):
-            for row in (
-                None, 0, True, "", "ab", (), [p, other], (p,), (other,), (p, other, ()), (other, p), (p, list(other)),
-                (p, None), (p, 0), (p, "00000"), (p, other[1:]), (p, other + (0,)), (p, ()), (p, (other,)), (None, other),
-                (str(p), other), ((p,), other), ([p], other), (float(p), other), (p == 1, other), (p != 0, other),
-                (p, (False,) + other[1:]), (p, (True,) + other[1:]), (p, (None,) + other[1:]), (p, ("0",) + other[1:]),
-                (p, ([],) + other[1:]), (p, (0.0,) + other[1:]), (p, ((0,),) + other[1:]), (p, (-2,) + other[1:]),
-                (p, (21,) + other[1:]), (p, other[:-1] + (-2,)), (p, other[:-1] + (21,)), (-1, other), (4, other),
-                (10 ** 30, other), (-10 ** 30, other),
-            ):
-                spoilt = table[:at] + (row,) + table[at + 1:]
-                self.assertIs(judge_table(self.history, (), self.state, 3, spoilt), False, spoilt)
-                added = table[:at + 1] + (row,) + table[at + 1:]
-                self.assertIs(judge_table(self.history, (), self.state, 3, added), False, added)
+        for spoilt in misshapen_tables(3, table):
+            self.assertIs(judge_table(self.history, (), self.state, 3, spoilt), False, spoilt)
 
     def test_bounds_of_p(self):
         history = plain.chain(2)

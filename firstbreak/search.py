@@ -1,10 +1,11 @@
 """The fewest tests that tell the class of the make that broke it (w2, w4, s1)."""
 
-from firstbreak.classes import marks, tests
+from firstbreak.classes import classes, marks, tests
 from firstbreak.errors import TooGreat
 from firstbreak.weights import inside, start, taken
 
 MOST_STATES = 20000
+MOST_CLASSES = 10
 
 
 def useful(history, skipped, state):
@@ -31,6 +32,12 @@ def check_size(state):
     for _ in state:
         size *= each
     if size > MOST_STATES:
+        raise TooGreat()
+
+
+def check_classes(history, skipped):
+    """Raise TooGreat if there are too many classes for a search through all rows of them."""
+    if len(classes(history, skipped)) > MOST_CLASSES:
         raise TooGreat()
 
 

@@ -4,9 +4,10 @@ import unittest
 from copy import deepcopy
 
 import plain
-from firstbreak import answers, classes, counts, flaky, flakytree, halving, histories, judge, onepapers, onesided
-from firstbreak import patches, search, text, tools, trees, weights
+from firstbreak import answers, classes, counts, flaky, flakytree, halving, histories, judge, log, onepapers, onesided
+from firstbreak import patches, report, roundplan, rounds, search, text, tools, trees, weights
 from firstbreak.answerer import Answerer
+from firstbreak.desk import Desk
 from firstbreak.errors import BreakError
 from firstbreak.hunt import Hunt
 
@@ -15,6 +16,17 @@ SKIPPED = (1,)
 STATE = (1, 0, 1)
 ANSWERS = (("works", 0), ("broken", 2), ("broken", 3), ("works", 0), ("broken", 2))
 TREE = ("ask", 0, ("found", 0), ("ask", 2, ("nobody",), ("found", 1)))
+LOG = (("answer", "works", "a"), ("answer", "broken", "c"), ("take", 0), ("skip", "b"))
+PLAN = ("round", (0, 2), (((False, False), ("found", 1)), ((False, True), ("found", 2)), ((True, True), ("found", 0))))
+
+
+def desk_behind(deeds):
+    """A desk for the history of this file."""
+    desk = Desk(HISTORY, 1, "all")
+    for deed in deeds:
+        desk.do(deed)
+    return desk
+
 
 CALLS = (
     (histories.check_history, HISTORY), (histories.ancestors, HISTORY, 3), (histories.offspring, HISTORY, 1),
@@ -46,9 +58,15 @@ CALLS = (
     (flaky.fewest_by_make, HISTORY, SKIPPED, 1, "two"), (flaky.held_back, ANSWERS, 3, 1, "two"),
     (flakytree.next_make, TREE, ANSWERS, 1, "two"), (flakytree.told_class, TREE, ANSWERS, 1, "one"),
     (flakytree.still_needed, TREE, ANSWERS, 1, "two"),
-    (flakytree.run, TREE, (False, True, True, True), (0, 1), 1, "two"),
+    (flakytree.run, TREE, (False, True, True, True), (0, 1), 1, "two"), (log.write_log, LOG),
+    (log.read_log, HISTORY, 0, "all", log.write_log(LOG)), (log.mended, HISTORY, 0, "two", log.write_log(LOG) + "x"),
+    (report.report, desk_behind(LOG)), (report.short, desk_behind(LOG)),
+    (report.changed, desk_behind(LOG), desk_behind(LOG[:2])), (rounds.patterns, HISTORY, (0, 1, 3), (0, 2)),
+    (rounds.fewest_rounds, HISTORY, SKIPPED, 2), (rounds.is_chain, HISTORY), (rounds.chain_rounds, 100, 3),
+    (roundplan.round_plan, HISTORY, SKIPPED, 2), (roundplan.rounds_of, PLAN),
+    (roundplan.judge_rounds, HISTORY, SKIPPED, 2, 1, PLAN), (roundplan.judge_rounds, HISTORY, SKIPPED, 1, 3, PLAN),
 )
-BOOLS = ("contradicts", "check_skipped", "has_two")
+BOOLS = ("contradicts", "check_skipped", "has_two", "is_chain")
 
 LISTS = ["history", [["a", [0, True]], {"b": [1]}], [], None, ["ask", 0, ["nobody"], ["found", [0]]]]
 
@@ -79,11 +97,18 @@ class Common(unittest.TestCase):
         self.only_told_kinds((hunt.test(), hunt.left(), hunt.ended(), hunt.found(), hunt.asked(), hunt.most()))
         self.assertIsInstance(hunt.ended(), bool)
         self.only_told_kinds((answerer.state(), answerer.answers(), answerer.needed()))
+        for desk in (desk_behind(()), desk_behind(LOG), log.replay(HISTORY, 0, "one", LOG)):
+            self.only_told_kinds((desk.history(), desk.rule(), desk.log(), desk.answers(), desk.numbers()))
+            self.only_told_kinds((desk.skipped(), desk.can_be(), desk.state(), desk.evenest()))
 
     def test_nothing_handed_in_is_changed(self):
         for thing in (LISTS, tuple(LISTS), ("history", LISTS), (LISTS,), (1, LISTS)):
             before = deepcopy(thing)
-            for function in (histories.check_history, lambda other: answers.check_answers(HISTORY, other)):
+            for function in (
+                histories.check_history, lambda other: answers.check_answers(HISTORY, other), desk_behind(LOG).do,
+                lambda other: log.replay(HISTORY, 1, "all", (other,)), lambda other: Desk(other, 0, "all"),
+                lambda other: Desk(HISTORY, other, "all"), lambda other: Desk(HISTORY, 0, other),
+            ):
                 with self.assertRaises(BreakError):
                     function(thing)
             self.assertIs(classes.check_skipped(HISTORY, thing), False)
@@ -92,6 +117,7 @@ class Common(unittest.TestCase):
             self.assertIs(judge.judge_table(HISTORY, SKIPPED, STATE, 9, thing), False)
             self.assertIs(onepapers.judge_tree_one(HISTORY, SKIPPED, STATE, 9, thing), False)
             self.assertIs(onepapers.judge_table_one(HISTORY, SKIPPED, STATE, 9, thing), False)
+            self.assertIs(roundplan.judge_rounds(HISTORY, SKIPPED, 3, 40, thing), False)
             self.assertEqual(thing, before)
 
 

@@ -6,6 +6,7 @@ from firstbreak.answerer import Answerer
 from firstbreak.answers import verdict
 from firstbreak.classes import classes, tests
 from firstbreak.counts import counts_after, counts_weight, fewest_counts
+from firstbreak.desk import Desk
 from firstbreak.errors import BadHistory
 from firstbreak.halving import even_most, even_test, parts_by, two_bound
 from firstbreak.hunt import Hunt
@@ -82,6 +83,14 @@ class Examples(unittest.TestCase):
         answerer = Answerer(history, (), start(history, (), 0))
         self.assertEqual((answerer.needed(), answerer.test(0), answerer.state()), (2, "works", (-1, 0, 0)))
         self.assertEqual((answerer.needed(), answerer.test(1), answerer.state()), (1, "broken", (-1, 0, -1)))
+
+    def test_desk(self):
+        makes = (("a", ()), ("b", (0,)), ("c", (0,)), ("d", (1, 2)))
+        for k, right in ((0, (("b",), "certain", "")), (1, (("a", "b", "c", "d"), "open", "b"))):
+            desk = Desk(("history", makes), k, "all")
+            self.assertIsNone(desk.do(("answer", "works", "a")))
+            self.assertIsNone(desk.do(("answer", "broken", "b")))
+            self.assertEqual((desk.can_be(), desk.state(), desk.evenest()), right)
 
 
 if __name__ == "__main__":

@@ -54,6 +54,18 @@ INTERFACE = {
         "next_make": "tree answers k rule", "told_class": "tree answers k rule", "still_needed": "tree answers k rule",
         "run": "tree truth noise k rule",
     },
+    "log": {
+        "replay": "history k rule log", "write_log": "log", "read_log": "history k rule text",
+        "mended": "history k rule text",
+    },
+    "report": {"report": "desk", "short": "desk", "changed": "desk other"},
+    "rounds": {
+        "patterns": "history left makes", "fewest_rounds": "history skipped w", "is_chain": "history",
+        "chain_rounds": "n w",
+    },
+    "roundplan": {
+        "round_plan": "history skipped w", "rounds_of": "plan", "judge_rounds": "history skipped w r plan",
+    },
 }
 
 CLASSES = {
@@ -64,6 +76,11 @@ CLASSES = {
     ("answerer", "Answerer"): {
         "__init__": "self history skipped state", "test": "self m", "state": "self", "answers": "self",
         "needed": "self", "undo": "self",
+    },
+    ("desk", "Desk"): {
+        "__init__": "self history k rule", "history": "self", "rule": "self", "do": "self deed", "undo": "self",
+        "log": "self", "answers": "self", "numbers": "self", "skipped": "self", "can_be": "self", "state": "self",
+        "evenest": "self",
     },
 }
 

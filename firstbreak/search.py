@@ -71,10 +71,16 @@ class Search:
         if state not in self.known:
             found = []
             for m, broken, works in self.ways(state):
-                found.append((1 + max(self.best(broken)[0], self.best(works)[0]), m))
+                found.append((self.worth(state, m, self.best(broken)[0], self.best(works)[0]), m))
             # No test is useful just where the state is settled.
             self.known[state] = min(found, default=(0, -1))
         return self.known[state]
+
+    def worth(self, state, m, broken, works):
+        """How many tests a state takes with make m first, by those behind both answers.
+
+        A search that counts something else than tests has another such method."""
+        return 1 + max(broken, works)
 
     def ways(self, state):
         """The useful tests of a state, each with the states behind broken and works."""

@@ -4,12 +4,14 @@ import unittest
 from copy import deepcopy
 
 import plain
-from firstbreak import answers, classes, counts, flaky, flakytree, halving, histories, judge, log, onepapers, onesided
-from firstbreak import patches, report, roundplan, rounds, search, text, tools, trees, weights
+from firstbreak import answers, chains, classes, costs, counts, flaky, flakytree, halving, histories, judge, likely, log
+from firstbreak import onepapers, onesided, patches, report, roundplan, rounds, search, standings, text, tools, trees
+from firstbreak import treetext, weights
 from firstbreak.answerer import Answerer
 from firstbreak.desk import Desk
 from firstbreak.errors import BreakError
 from firstbreak.hunt import Hunt
+from test_interface import INTERFACE
 
 HISTORY = plain.history_of((), (0,), (0,), (1, 2))
 SKIPPED = (1,)
@@ -17,6 +19,7 @@ STATE = (1, 0, 1)
 ANSWERS = (("works", 0), ("broken", 2), ("broken", 3), ("works", 0), ("broken", 2))
 TREE = ("ask", 0, ("found", 0), ("ask", 2, ("nobody",), ("found", 1)))
 LOG = (("answer", "works", "a"), ("answer", "broken", "c"), ("take", 0), ("skip", "b"))
+NUMBERS = (5, 1, 1, 700)
 PLAN = ("round", (0, 2), (((False, False), ("found", 1)), ((False, True), ("found", 2)), ((True, True), ("found", 0))))
 
 
@@ -65,6 +68,16 @@ CALLS = (
     (rounds.fewest_rounds, HISTORY, SKIPPED, 2), (rounds.is_chain, HISTORY), (rounds.chain_rounds, 100, 3),
     (roundplan.round_plan, HISTORY, SKIPPED, 2), (roundplan.rounds_of, PLAN),
     (roundplan.judge_rounds, HISTORY, SKIPPED, 2, 1, PLAN), (roundplan.judge_rounds, HISTORY, SKIPPED, 1, 3, PLAN),
+    (costs.least_cost, HISTORY, SKIPPED, NUMBERS), (costs.cost_tree, HISTORY, SKIPPED, NUMBERS),
+    (costs.cost_of, TREE, NUMBERS), (likely.least_sum, HISTORY, SKIPPED, NUMBERS),
+    (likely.sum_tree, HISTORY, SKIPPED, NUMBERS), (likely.sum_of, HISTORY, TREE, NUMBERS),
+    (likely.huffman_sum, NUMBERS), (likely.class_likely, HISTORY, SKIPPED, NUMBERS), (chains.chain_sum, NUMBERS),
+    (chains.chain_tree, NUMBERS), (treetext.shown_tree, HISTORY, TREE),
+    (treetext.parse_tree, HISTORY, treetext.shown_tree(HISTORY, TREE)), (standings.spares, HISTORY, ANSWERS, 1),
+    (standings.ranking, HISTORY, ANSWERS), (standings.certain_against, HISTORY, ANSWERS, 2),
+    (standings.rivals, HISTORY, ANSWERS, 2), (standings.tellings, HISTORY, (0, 2, 3)),
+    (standings.course, HISTORY, ANSWERS, 1), (standings.decisive, HISTORY, ANSWERS, 1),
+    (standings.to_take_away, HISTORY, ANSWERS, 0), (standings.standings_text, HISTORY, ANSWERS, 1),
 )
 BOOLS = ("contradicts", "check_skipped", "has_two", "is_chain")
 
@@ -84,6 +97,21 @@ class Common(unittest.TestCase):
             self.only_told_kinds(first)
             second = function(*deepcopy(arguments))
             self.assertEqual((repr(first), first), (repr(second), second))
+
+    def test_same_answers_in_another_order(self):
+        first = [repr(function(*arguments)) for function, *arguments in CALLS]
+        second = [repr(function(*arguments)) for function, *arguments in CALLS[::-1]]
+        self.assertEqual(first, second[::-1])
+        for step in (7, 11):
+            for at in range(step):
+                for (function, *arguments), right in list(zip(CALLS, first))[at::step]:
+                    self.assertEqual(repr(function(*arguments)), right)
+
+    def test_each_function_of_the_interface_is_called(self):
+        called = {(function.__module__.partition(".")[2], function.__name__) for function, *_ in CALLS}
+        # Of a desk nothing but more calls would tell that it is the same; test_log has these.
+        called.add(("log", "replay"))
+        self.assertEqual(called, {(name, title) for name, rows in INTERFACE.items() for title in rows})
 
     def test_bools_are_bools(self):
         for function, *arguments in CALLS:

@@ -4,18 +4,21 @@ import unittest
 
 from firstbreak.answerer import Answerer
 from firstbreak.answers import verdict
+from firstbreak.chains import chain_sum, chain_tree
 from firstbreak.classes import classes, tests
 from firstbreak.counts import counts_after, counts_weight, fewest_counts
 from firstbreak.desk import Desk
 from firstbreak.errors import BadHistory
 from firstbreak.halving import even_most, even_test, parts_by, two_bound
 from firstbreak.hunt import Hunt
+from firstbreak.likely import huffman_sum
 from firstbreak.onesided import after_one, can_be_one, fewest_one
 from firstbreak.patches import fewest_patches, next_numbers
 from firstbreak.search import fewest
 from firstbreak.text import parse, shown
 from firstbreak.tools import between, gates, main_line, merges, reduced, sides, to_blame, up_to, ways
 from firstbreak.trees import best_tree, depth_of, followed
+from firstbreak.treetext import parse_tree, shown_tree
 from firstbreak.weights import start, weight, weight_bound
 
 
@@ -91,6 +94,17 @@ class Examples(unittest.TestCase):
             self.assertIsNone(desk.do(("answer", "works", "a")))
             self.assertIsNone(desk.do(("answer", "broken", "b")))
             self.assertEqual((desk.can_be(), desk.state(), desk.evenest()), right)
+
+    def test_chains(self):
+        self.assertEqual((chain_sum((5, 1, 1, 5)), huffman_sum((5, 1, 1, 5))), (21, 21))
+        self.assertEqual(chain_tree((3, 1)), ("ask", 0, ("found", 0), ("found", 1)))
+
+    def test_texts_of_trees(self):
+        history = parse("make a\nmake b from a\n")
+        self.assertEqual(shown_tree(history, ("ask", 0, ("found", 0), ("found", 1))), "ask a\n  found 0\n  found 1\n")
+        with self.assertRaises(BadHistory) as caught:
+            parse_tree(parse("make a\n"), "ask a\n  found 0\n")
+        self.assertEqual((caught.exception.line, caught.exception.reason), (3, "not ended"))
 
 
 if __name__ == "__main__":

@@ -66,6 +66,20 @@ INTERFACE = {
     "roundplan": {
         "round_plan": "history skipped w", "rounds_of": "plan", "judge_rounds": "history skipped w r plan",
     },
+    "costs": {
+        "least_cost": "history skipped costs", "cost_tree": "history skipped costs", "cost_of": "tree costs",
+    },
+    "likely": {
+        "least_sum": "history skipped likely", "sum_tree": "history skipped likely", "sum_of": "history tree likely",
+        "huffman_sum": "numbers", "class_likely": "history skipped likely",
+    },
+    "chains": {"chain_sum": "likely", "chain_tree": "likely"},
+    "treetext": {"shown_tree": "history tree", "parse_tree": "history text"},
+    "standings": {
+        "spares": "history answers k", "ranking": "history answers", "certain_against": "history answers c",
+        "rivals": "history answers c", "tellings": "history left", "course": "history answers k",
+        "decisive": "history answers k", "to_take_away": "history answers k", "standings_text": "history answers k",
+    },
 }
 
 CLASSES = {
